@@ -1,0 +1,1 @@
+"""Changewhile: programs changed while they run."""

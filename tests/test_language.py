@@ -1,0 +1,148 @@
+"""The files of the package: the sizes of L10 in LANGUAGE.md, some other rules of it, and the interface."""
+
+import ast
+import builtins
+import pathlib
+import unittest
+
+PACKAGE = pathlib.Path(__file__).resolve().parent.parent / "changewhile"
+
+INTERFACE = {
+    "errors": {"ChangeError", "NoText", "NotRight", "Stuck", "NoFit", "NoLead", "NotNow"},
+    "kinds": {"is_name", "is_kind", "kind_text", "read_kind", "names_in"},
+    "values": {"is_value", "is_plain", "is_of", "alike_values", "value_text", "read_value"},
+    "terms": {"is_term", "term_text", "read_term", "parts_of", "with_names"},
+    "rows": {"is_row", "row_text", "read_row", "next_rows"},
+    "programs": {"is_part", "is_program", "marks_of"},
+    "programtexts": {"program_text", "read_program"},
+}
+
+# The builtins of L8, without those that have rules of their own.
+BUILTINS = {"len", "range", "enumerate", "zip", "min", "max", "sum", "abs", "sorted", "reversed", "int", "str", "bool",
+            "list", "tuple", "dict", "set", "isinstance", "ord", "repr", "any", "all", "divmod", "Exception",
+            "ValueError", "TypeError", "KeyError", "IndexError", "LookupError", "ZeroDivisionError"}
+
+BARRED_WORDS = {"register", "mro", "elements", "open", "input", "law", "version_info", "type", "id", "hash", "next",
+                "map", "filter", "vars", "dir", "eval", "exec", "compile", "help", "exit", "super", "sys", "os"}
+
+BARRED_NODES = (ast.Global, ast.AsyncFunctionDef, ast.AsyncFor, ast.AsyncWith, ast.Await, ast.Import, ast.Div)
+
+
+def files():
+    return sorted(path for path in PACKAGE.rglob("*") if "__pycache__" not in path.parts)
+
+
+def trees():
+    return [(path, ast.parse(path.read_text(encoding="utf-8"))) for path in files()]
+
+
+class Sizes(unittest.TestCase):
+    def test_there_are_only_files_of_python(self):
+        self.assertTrue(files())
+        for path in files():
+            self.assertTrue(path.is_file() and path.suffix == ".py", path)
+            self.assertEqual(path.name, path.name.lower())
+
+    def test_files_have_at_most_399_lines(self):
+        for path in files():
+            self.assertLessEqual(len(path.read_text(encoding="utf-8").split("\n")), 399, path)
+
+    def test_lines_have_at_most_120_characters(self):
+        for path in files():
+            for number, line in enumerate(path.read_text(encoding="utf-8").split("\n"), start=1):
+                self.assertLessEqual(len(line), 120, (path, number))
+
+    def test_functions_have_at_most_40_lines(self):
+        for path, tree in trees():
+            for node in ast.walk(tree):
+                if isinstance(node, (ast.FunctionDef, ast.Lambda)):
+                    self.assertLessEqual(node.end_lineno - node.lineno + 1, 40, (path, node.lineno))
+
+    def test_characters(self):
+        for path in files():
+            for code in path.read_bytes():
+                self.assertTrue(code == 10 or 32 <= code <= 126, (path, code))
+
+
+class Language(unittest.TestCase):
+    def test_imports_are_from_the_package_by_full_names(self):
+        for path, tree in trees():
+            for node in ast.walk(tree):
+                self.assertNotIsInstance(node, ast.Import, path)
+                if isinstance(node, ast.ImportFrom):
+                    self.assertEqual(node.level, 0, path)
+                    self.assertTrue(node.module.startswith("changewhile."), path)
+                    self.assertIn(node, tree.body, path)
+                    for alias in node.names:
+                        self.assertIsNone(alias.asname, path)
+                        self.assertIn(alias.name, defined_in(node.module), (path, alias.name))
+
+    def test_no_two_files_import_from_each_other(self):
+        behind = {path.stem: {node.module.split(".")[1] for node in ast.walk(tree) if isinstance(node, ast.ImportFrom)}
+                  for path, tree in trees()}
+        while behind:
+            ready = [name for name, needs in behind.items() if not needs & set(behind)]
+            self.assertTrue(ready, behind)
+            for name in ready:
+                del behind[name]
+
+    def test_no_barred_statements(self):
+        for path, tree in trees():
+            for node in ast.walk(tree):
+                self.assertNotIsInstance(node, BARRED_NODES, (path, getattr(node, "lineno", 0)))
+
+    def test_no_barred_names(self):
+        for path, tree in trees():
+            for node in ast.walk(tree):
+                for name in names_of(node):
+                    self.assertNotIn(name, BARRED_WORDS, path)
+
+    def test_builtins(self):
+        for path, tree in trees():
+            for node in ast.walk(tree):
+                if isinstance(node, ast.Name) and node.id in vars(builtins):
+                    self.assertIn(node.id, BUILTINS, (path, node.lineno))
+                    self.assertIsInstance(node.ctx, ast.Load, (path, node.lineno))
+                if isinstance(node, (ast.arg, ast.FunctionDef, ast.ClassDef)):
+                    name = node.arg if isinstance(node, ast.arg) else node.name
+                    self.assertNotIn(name, vars(builtins), path)
+
+    def test_module_level_has_only_what_it_may(self):
+        for path, tree in trees():
+            for node in tree.body:
+                self.assertIsInstance(node, (ast.Expr, ast.ImportFrom, ast.FunctionDef, ast.ClassDef, ast.Assign), path)
+                if isinstance(node, ast.Expr):
+                    self.assertIsInstance(node.value, ast.Constant, path)
+
+
+class Interface(unittest.TestCase):
+    def test_each_name_is_defined_in_its_file(self):
+        for name, wanted in INTERFACE.items():
+            self.assertLessEqual(wanted, defined_in("changewhile." + name))
+
+
+def defined_in(module):
+    """The names that a file of the package binds itself."""
+    tree = ast.parse((PACKAGE / (module.split(".")[1] + ".py")).read_text(encoding="utf-8"))
+    found = {node.name for node in tree.body if isinstance(node, (ast.FunctionDef, ast.ClassDef))}
+    found.update(target.id for node in tree.body if isinstance(node, ast.Assign) for target in node.targets)
+    return found
+
+
+def names_of(node):
+    """The names that a node itself gives or reads."""
+    if isinstance(node, ast.Name):
+        return [node.id]
+    if isinstance(node, ast.Attribute):
+        return [node.attr]
+    if isinstance(node, ast.arg):
+        return [node.arg]
+    if isinstance(node, (ast.FunctionDef, ast.ClassDef)):
+        return [node.name]
+    if isinstance(node, ast.Constant) and isinstance(node.value, str):
+        return [node.value]
+    return []
+
+
+if __name__ == "__main__":
+    unittest.main()
