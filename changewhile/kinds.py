@@ -3,6 +3,9 @@
 from changewhile.errors import NoText
 from changewhile.reading import DEEPEST
 
+NUMBER = ("number",)
+TRUTH = ("truth",)
+
 KEPT_WORDS = ("number", "truth", "yes", "no")
 LONGEST_NAME = 8
 

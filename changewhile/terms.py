@@ -5,19 +5,20 @@ from changewhile.kinds import is_kind, is_name, kind_text, read_kind
 from changewhile.reading import read_figures, side_by_side
 from changewhile.values import is_number
 
-# How many terms stand behind each word that has nothing but terms behind it.
-COUNTS = {
-    "add": 2,
-    "less": 2,
-    "times": 2,
-    "under": 2,
-    "same": 2,
-    "both": 2,
-    "join": 2,
-    "not": 1,
-    "many": 1,
-    "pick": 3,
-    "at": 3,
+# The sorts that the terms behind each word are to be of, "" for any: what words of kinds begin with.
+SORTS = {
+    "add": ("number", "number"),
+    "less": ("number", "number"),
+    "times": ("number", "number"),
+    "under": ("number", "number"),
+    "same": ("", ""),
+    "both": ("truth", "truth"),
+    "join": ("list", "list"),
+    "not": ("truth",),
+    "many": ("list",),
+    "pick": ("truth", "", ""),
+    "at": ("list", "number", ""),
+    "field": ("record",),
 }
 LEAVES = ("number", "truth", "name", "box", "empty")
 MOST_LISTED = 8
@@ -45,7 +46,7 @@ def _is_shaped(thing):
         return len(thing) == 3 and is_name(thing[2])
     if word == "list":
         return len(thing) <= 1 + MOST_LISTED
-    return word in COUNTS and len(thing) == 1 + COUNTS[word]
+    return word in SORTS and len(thing) == 1 + len(SORTS[word])
 
 
 def _is_leaf_part(word, part):
@@ -67,24 +68,28 @@ def parts_of(term):
     return list(term[1:])
 
 
-def with_names(term, terms):
-    """The term with each name in a dict exchanged for its term there, all at once."""
+def folded(term, told):
+    """What told makes of a term and of the list of what it made of the terms right within it."""
+    # A list of what is still to do, as terms may be too deep to call oneself for each.
     done = []
     todo = [(term, False)]
     while todo:
         one, are_parts_done = todo.pop()
         parts = parts_of(one)
-        if not parts:
-            done.append(_exchanged(one, terms))
-        elif are_parts_done:
-            many = len(parts)
-            parts = done[-many:]
-            del done[-many:]
-            done.append(_with_parts(one, parts))
-        else:
+        if parts and not are_parts_done:
             todo.append((one, True))
             todo.extend([(part, False) for part in parts[::-1]])
+        else:
+            ahead = len(done) - len(parts)
+            made = done[ahead:]
+            del done[ahead:]
+            done.append(told(one, made))
     return done[0]
+
+
+def with_names(term, terms):
+    """The term with each name in a dict exchanged for its term there, all at once."""
+    return folded(term, lambda one, parts: _with_parts(one, parts) if parts else _exchanged(one, terms))
 
 
 def _exchanged(leaf, terms):

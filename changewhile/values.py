@@ -45,6 +45,17 @@ def _leaves(thing):
     return found
 
 
+def sort_of(value):
+    """The sort of a value: what the kinds begin with that it may be of."""
+    if isinstance(value, bool):
+        return "truth"
+    if isinstance(value, int):
+        return "number"
+    if isinstance(value, tuple):
+        return "list"
+    return "record"
+
+
 def is_of(kind, value, records):
     """Whether a value is of a kind, by records."""
     todo = [(kind, value)]

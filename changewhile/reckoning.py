@@ -1,0 +1,63 @@
+"""What terms are worth."""
+
+from changewhile.errors import Stuck
+from changewhile.terms import SORTS, folded
+from changewhile.values import LONGEST_TUPLE, NUMBERS, alike_values, sort_of
+
+
+def worth(term, held, boxes, records):
+    """The worth of a term by held names, boxes and records; else Stuck."""
+    return folded(term, lambda one, values: _worth_over(one, values, held, boxes, records))
+
+
+def _worth_over(term, values, held, boxes, records):
+    """The worth of a term, the terms right within it being worth such values."""
+    word = term[0]
+    if not all([sort in ("", sort_of(value)) for sort, value in zip(SORTS.get(word, ()), values)]):
+        raise Stuck("", -1)
+    if word in ("number", "truth"):
+        return term[1]
+    if word == "empty":
+        return ()
+    if word == "name":
+        return _found(held, term[1])
+    if word == "box":
+        return _found(boxes, term[1])
+    if word == "field":
+        _, pairs = _found(records, values[0])
+        return _found(dict(pairs), term[2])
+    return _reckoned(word, values)
+
+
+def _found(things, key):
+    """What a dict has for a key; else Stuck."""
+    if key not in things:
+        raise Stuck("", -1)
+    return things[key]
+
+
+def _reckoned(word, values):
+    """What a word makes of values that are of the sorts that it wants."""
+    if word == "add":
+        return (values[0] + values[1]) % NUMBERS
+    if word == "less":
+        return (values[0] - values[1]) % NUMBERS
+    if word == "times":
+        return (values[0] * values[1]) % NUMBERS
+    if word == "under":
+        return values[0] < values[1]
+    if word == "same":
+        return alike_values(values[0], values[1])
+    if word == "both":
+        return values[0] and values[1]
+    if word == "join":
+        return (values[0] + values[1])[:LONGEST_TUPLE]
+    if word == "not":
+        return not values[0]
+    if word == "many":
+        return len(values[0])
+    if word == "pick":
+        return values[1] if values[0] else values[2]
+    if word == "at":
+        return values[0][values[1]] if values[1] < len(values[0]) else values[2]
+    return tuple(values)
