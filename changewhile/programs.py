@@ -44,7 +44,7 @@ def is_program(thing):
         return False
     if not all([is_part(parts[name]) for name in parts]):
         return False
-    return are_unlike([found[0] for found in _marks_in(parts)])
+    return are_unlike([found[0] for found in marks_in(parts)])
 
 
 def _are_names(names):
@@ -60,8 +60,8 @@ def _is_box(thing):
     return isinstance(thing, tuple) and len(thing) == 2 and is_kind(thing[0]) and is_plain(thing[1])
 
 
-def _marks_in(parts):
-    """A list of (mark's name, part's name, row's number), by sorted places."""
+def marks_in(parts):
+    """A list of (mark's name, part's name, row's number) of a dict of parts, by sorted places."""
     found = []
     for name in sorted(parts):
         for r, row in enumerate(parts[name][2]):
@@ -72,4 +72,4 @@ def _marks_in(parts):
 
 def marks_of(program):
     """A dict from the names of a program's marks to their places."""
-    return {mark: (name, r) for mark, name, r in _marks_in(program[2])}
+    return {mark: (name, r) for mark, name, r in marks_in(program[2])}

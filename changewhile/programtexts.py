@@ -11,12 +11,22 @@ ROW_AHEAD = "  "
 
 def program_text(program):
     """The text of a program."""
+    return text_of_lines(program_lines(program))
+
+
+def text_of_lines(lines):
+    """The text of lines, a line feed behind each."""
+    return "".join([line + "\n" for line in lines])
+
+
+def program_lines(program):
+    """A list of the lines of a program's text."""
     kinds, boxes, parts = program
     lines = [_kind_line(name, kinds[name]) for name in sorted(kinds)]
     lines.extend([_box_line(name, boxes[name]) for name in sorted(boxes)])
     for name in sorted(parts):
         lines.extend(_part_lines(name, parts[name]))
-    return "".join([line + "\n" for line in lines])
+    return lines
 
 
 def _kind_line(name, fields):
@@ -41,15 +51,20 @@ def _pairs_text(pairs):
 
 def read_program(text):
     """The program of a text; else NoText, of anything."""
-    if not isinstance(text, str):
-        raise NoText("not a text")
-    program = _program_of(text.split("\n")[:-1])
+    program = program_of(lines_of(text))
     if not is_program(program) or program_text(program) != text:
         raise NoText("not the text of a program")
     return program
 
 
-def _program_of(lines):
+def lines_of(text):
+    """A list of the lines of a text, without what stands behind the last line feed; else NoText, of anything."""
+    if not isinstance(text, str):
+        raise NoText("not a text")
+    return text.split("\n")[:-1]
+
+
+def program_of(lines):
     """The program, perhaps none, of lines; the caller is to hold it against their text."""
     kinds = {}
     boxes = {}

@@ -85,18 +85,28 @@ def _part_text(slot, part):
         return str(part)
     if slot == "terms":
         return " ".join([term_text(term) for term in part])
-    return ", ".join([name + " " + term_text(term) for name, term in part])
+    return fields_text(part)
+
+
+def fields_text(fields):
+    """The text of pairs of fields and terms."""
+    return ", ".join([name + " " + term_text(term) for name, term in fields])
 
 
 def read_row(text):
     """The row of a text; else NoText, of anything."""
     if not isinstance(text, str):
         raise NoText("not a text")
-    # No text of a term has a comma: they part the fields of a new, and nothing else.
-    row = _row_of([read_pieces(group) for group in text.split(",")])
+    row = _row_of(read_groups(text))
     if not is_row(row) or row_text(row) != text:
         raise NoText("not the text of a row")
     return row
+
+
+def read_groups(text):
+    """A list of the lists of pieces that stand between a text's commas."""
+    # No text of a term has a comma: they part the fields of a new or of a lead, and nothing else.
+    return [read_pieces(group) for group in text.split(",")]
 
 
 def _row_of(groups):
@@ -109,13 +119,14 @@ def _row_of(groups):
         if slot == "terms":
             row.append(tuple([term_of(piece) for piece in pieces[k:]]))
         elif slot == "fields":
-            row.append(_fields_of([pieces[k:]] + groups[1:]))
+            row.append(fields_of([pieces[k:]] + groups[1:]))
         elif k < len(pieces):
             row.append(_part_of(slot, pieces[k]))
     return tuple(row)
 
 
-def _fields_of(groups):
+def fields_of(groups):
+    """The pairs of fields and terms, perhaps none, of the pieces between commas."""
     return tuple([_field_of(group) for group in groups if group])
 
 

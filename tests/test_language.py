@@ -15,6 +15,13 @@ INTERFACE = {
     "rows": {"is_row", "row_text", "read_row", "next_rows"},
     "programs": {"is_part", "is_program", "marks_of"},
     "programtexts": {"program_text", "read_program"},
+    "kinding": {"kind_of", "is_there", "is_right", "leaves"},
+    "papers": {"grown", "wrong_rows", "reads", "papers_of"},
+    "reckoning": {"worth"},
+    "states": {"begun", "stepped", "run_on", "fits"},
+    "places": {"places_at", "chain_to"},
+    "changes": {"is_change", "changed"},
+    "changetexts": {"change_text", "read_change"},
 }
 
 # The builtins of L8, without those that have rules of their own.
@@ -106,6 +113,23 @@ class Language(unittest.TestCase):
                 if isinstance(node, (ast.arg, ast.FunctionDef, ast.ClassDef)):
                     name = node.arg if isinstance(node, ast.arg) else node.name
                     self.assertNotIn(name, vars(builtins), path)
+
+    def test_no_import_or_class_gives_its_name_to_anything_else(self):
+        for path, tree in trees():
+            taken = {node.name for node in tree.body if isinstance(node, ast.ClassDef)}
+            taken.update(alias.name for node in tree.body if isinstance(node, ast.ImportFrom) for alias in node.names)
+            for node in ast.walk(tree):
+                if isinstance(node, ast.arg):
+                    self.assertNotIn(node.arg, taken, (path, node.lineno))
+                if isinstance(node, ast.Name) and isinstance(node.ctx, ast.Store):
+                    self.assertNotIn(node.id, taken, (path, node.lineno))
+
+    def test_imports_are_used(self):
+        for path, tree in trees():
+            used = {node.id for node in ast.walk(tree) if isinstance(node, ast.Name)}
+            for node in tree.body:
+                if isinstance(node, ast.ImportFrom):
+                    self.assertLessEqual({alias.name for alias in node.names}, used, path)
 
     def test_module_level_has_only_what_it_may(self):
         for path, tree in trees():
