@@ -7,10 +7,15 @@ from changewhile.values import LONGEST_TUPLE, NUMBERS, alike_values, sort_of
 
 def worth(term, held, boxes, records):
     """The worth of a term by held names, boxes and records; else Stuck."""
-    return folded(term, lambda one, values: _worth_over(one, values, held, boxes, records))
+    return worth_by(term, held, lambda box: found(boxes, box), lambda ref: found(records, ref))
 
 
-def _worth_over(term, values, held, boxes, records):
+def worth_by(term, held, box_of, record_of):
+    """The same, where box_of tells a box's value and record_of what a ref is; else Stuck."""
+    return folded(term, lambda one, values: _worth_over(one, values, held, box_of, record_of))
+
+
+def _worth_over(term, values, held, box_of, record_of):
     """The worth of a term, the terms right within it being worth such values."""
     word = term[0]
     if not all([sort in ("", sort_of(value)) for sort, value in zip(SORTS.get(word, ()), values)]):
@@ -20,16 +25,16 @@ def _worth_over(term, values, held, boxes, records):
     if word == "empty":
         return ()
     if word == "name":
-        return _found(held, term[1])
+        return found(held, term[1])
     if word == "box":
-        return _found(boxes, term[1])
+        return box_of(term[1])
     if word == "field":
-        _, pairs = _found(records, values[0])
-        return _found(dict(pairs), term[2])
+        _, pairs = record_of(values[0])
+        return found(dict(pairs), term[2])
     return _reckoned(word, values)
 
 
-def _found(things, key):
+def found(things, key):
     """What a dict has for a key; else Stuck."""
     if key not in things:
         raise Stuck("", -1)

@@ -2,7 +2,8 @@
 
 from changewhile.errors import Stuck
 from changewhile.kinds import NUMBER, TRUTH
-from changewhile.reckoning import worth
+from changewhile.reckoning import worth_by
+from changewhile.standing import Standing
 from changewhile.values import is_of
 
 MOST_FRAMES = 60
@@ -14,16 +15,23 @@ class Run:
     def __init__(self, program, state):
         boxes, records, frames, words, end = state
         self.kinds, self.firsts, self.parts = program
-        self.boxes = dict(boxes)
-        self.records = dict(records)
+        self.standing = Standing(boxes, records)
         self.frames = [(name, part, row, dict(held)) for name, part, row, held in frames]
         self.words = list(words)
         self.end = end
 
+    def program(self):
+        """The program by which the run goes on, with dicts of its own."""
+        return (dict(self.kinds), dict(self.firsts), dict(self.parts))
+
+    def go_by(self, program):
+        """Go on by another program."""
+        self.kinds, self.firsts, self.parts = program
+
     def state(self):
-        """The state at which the run is, with dicts of its own."""
+        """The state at which the run is, all led over, with dicts of its own."""
         frames = [(name, part, row, dict(held)) for name, part, row, held in self.frames]
-        return (dict(self.boxes), dict(self.records), tuple(frames), tuple(self.words), self.end)
+        return (*self.standing.all_led(), tuple(frames), tuple(self.words), self.end)
 
     def step(self):
         """Do the last frame's row, of a run that has not ended; else Stuck."""
@@ -62,12 +70,13 @@ class Run:
             self.words.append(self._reckon(row[1], NUMBER))
 
     def _worth(self, term):
-        return worth(term, self.frames[-1][3], self.boxes, self.records)
+        standing = self.standing
+        return worth_by(term, self.frames[-1][3], lambda box: standing.box(box), lambda ref: standing.record(ref))
 
     def _reckon(self, term, kind):
         """The worth of a term; else Stuck, also where it is not of the kind."""
         value = self._worth(term)
-        if not is_of(kind, value, self.records):
+        if not is_of(kind, value, self.standing.records):
             raise Stuck("", -1)
         return value
 
@@ -88,21 +97,22 @@ class Run:
         self._go_to(self.frames[-1][2] + 1)
 
     def _put(self, box, term):
-        if box not in self.firsts or box not in self.boxes:
+        if box not in self.firsts or box not in self.standing.boxes:
             raise Stuck("", -1)
-        self.boxes[box] = self._reckon(term, self.firsts[box][0])
+        self.standing.put(box, self._reckon(term, self.firsts[box][0]))
 
-    def _set(self, record, field, term):
-        ref = self._worth(record)
+    def _set(self, target, field, term):
+        ref = self._worth(target)
+        records = self.standing.records
         # A dead record has no name of a kind that is there.
-        if not isinstance(ref, str) or ref not in self.records or self.records[ref][0] not in self.kinds:
+        if not isinstance(ref, str) or ref not in records or records[ref][0] not in self.kinds:
             raise Stuck("", -1)
-        name, pairs = self.records[ref]
+        name, pairs = self.standing.record(ref)
         kinds = dict(self.kinds[name])
         if field not in kinds or field not in dict(pairs):
             raise Stuck("", -1)
         value = self._reckon(term, kinds[field])
-        self.records[ref] = (name, tuple([(one, value if one == field else old) for one, old in pairs]))
+        records[ref] = (name, tuple([(one, value if one == field else old) for one, old in pairs]))
 
     def _make(self, row):
         """Make the record of a new."""
@@ -111,8 +121,9 @@ class Run:
         if kind not in self.kinds or fields != [field for field, _ in self.kinds[kind]]:
             raise Stuck("", -1)
         values = self._reckon_all([term for _, term in told], [wanted for _, wanted in self.kinds[kind]])
-        ref = "r" + str(len(self.records))
-        self.records[ref] = (kind, tuple(zip(fields, values)))
+        records = self.standing.records
+        ref = "r" + str(len(records))
+        records[ref] = (kind, tuple(zip(fields, values)))
         self._hold(row[1], ref)
 
     def _call(self, row):

@@ -3,9 +3,8 @@
 from changewhile.errors import Stuck
 from changewhile.papers import is_paper, reads
 from changewhile.runs import Run, frame_at_first
+from changewhile.standing import DEAD
 from changewhile.values import is_of
-
-DEAD = ("", ())
 
 
 def begun(program, name, values):

@@ -22,6 +22,35 @@ INTERFACE = {
     "places": {"places_at", "chain_to"},
     "changes": {"is_change", "changed"},
     "changetexts": {"change_text", "read_change"},
+    "looking": {"look", "reads_entry"},
+    "leading": {"led"},
+    "lives": {"Live"},
+}
+
+# Each function and method of the interface with its arguments, where there are some, as in "told=1".
+ARGUMENTS = {
+    "kinds": ["is_name(thing)", "is_kind(thing)", "kind_text(kind)", "read_kind(text)", "names_in(kind)"],
+    "values": ["is_value(thing)", "is_plain(thing)", "is_of(kind, value, records)", "alike_values(one, other)",
+               "value_text(value)", "read_value(text)"],
+    "terms": ["is_term(thing)", "term_text(term)", "read_term(text)", "parts_of(term)", "with_names(term, terms)"],
+    "rows": ["is_row(thing)", "row_text(row)", "read_row(text)", "next_rows(rows, r)"],
+    "programs": ["is_part(thing)", "is_program(thing)", "marks_of(program)"],
+    "programtexts": ["program_text(program)", "read_program(text)"],
+    "kinding": ["kind_of(term, holding, program)", "is_there(kind, program)", "is_right(row, holding, program, part)",
+                "leaves(row, holding, program)"],
+    "papers": ["grown(program, part, row, holding)", "wrong_rows(program, part, paper)", "reads(program, part, paper)",
+               "papers_of(program)"],
+    "reckoning": ["worth(term, held, boxes, records)"],
+    "states": ["begun(program, name, values)", "stepped(program, state)", "run_on(program, state, many)",
+               "fits(program, state, papers)"],
+    "places": ["places_at(program, start, mark)", "chain_to(program, start, mark, place)"],
+    "changes": ["is_change(thing)", "changed(program, change)"],
+    "changetexts": ["change_text(change)", "read_change(text)"],
+    "looking": ["look(program, start, change)", "reads_entry(program, start, change, mark, papers)"],
+    "leading": ["led(program, change, state)"],
+    "lives": ["Live.__init__(self, program, start, values)", "Live.program(self)", "Live.state(self)", "Live.mark(self)",
+              "Live.step(self)", "Live.look(self, change)", "Live.enter(self, change, way='once')", "Live.asleep(self)",
+              "Live.old(self)", "Live.wait(self, change, way='once')", "Live.waiting(self)", "Live.dropped(self)"],
 }
 
 # The builtins of L8, without those that have rules of their own.
@@ -144,6 +173,12 @@ class Interface(unittest.TestCase):
         for name, wanted in INTERFACE.items():
             self.assertLessEqual(wanted, defined_in("changewhile." + name))
 
+    def test_each_has_its_arguments(self):
+        self.assertEqual(sorted(ARGUMENTS), sorted(set(INTERFACE) - {"errors"}))
+        for name, wanted in ARGUMENTS.items():
+            self.assertLessEqual({one.split("(")[0].split(".")[0] for one in wanted}, INTERFACE[name])
+            self.assertLessEqual(set(wanted), set(heads_in(name)), name)
+
 
 def defined_in(module):
     """The names that a file of the package binds itself."""
@@ -151,6 +186,19 @@ def defined_in(module):
     found = {node.name for node in tree.body if isinstance(node, (ast.FunctionDef, ast.ClassDef))}
     found.update(target.id for node in tree.body if isinstance(node, ast.Assign) for target in node.targets)
     return found
+
+
+def heads_in(name):
+    """The heads of the functions of a file, and of its classes' methods."""
+    tree = ast.parse((PACKAGE / (name + ".py")).read_text(encoding="utf-8"))
+    heads = []
+    for node in tree.body:
+        if isinstance(node, ast.FunctionDef):
+            heads.append(node.name + "(" + ast.unparse(node.args) + ")")
+        if isinstance(node, ast.ClassDef):
+            heads.extend(node.name + "." + one.name + "(" + ast.unparse(one.args) + ")"
+                         for one in node.body if isinstance(one, ast.FunctionDef))
+    return heads
 
 
 def names_of(node):
