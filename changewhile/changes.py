@@ -23,7 +23,7 @@ def is_change(thing):
         return False
     if not all([_are_kindleads(kindleads[name]) for name in kindleads]):
         return False
-    return all([_is_lead(boxleads[name]) for name in boxleads])
+    return all([is_lead(boxleads[name]) for name in boxleads])
 
 
 def _are_outs(thing):
@@ -38,10 +38,10 @@ def _is_by_names(thing):
 
 def _are_kindleads(thing):
     """Whether a thing is what a change tells of the leads of a kind: its fields with their terms."""
-    return are_named(thing) and are_rising(thing) and all([_is_lead(pair[1]) for pair in thing])
+    return are_named(thing) and are_rising(thing) and all([is_lead(pair[1]) for pair in thing])
 
 
-def _is_lead(thing):
+def is_lead(thing):
     """Whether a thing is a term without boxes and fields."""
     if not is_term(thing):
         return False

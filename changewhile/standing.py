@@ -122,6 +122,7 @@ def led_value(lead, value):
 
 
 def led_pairs(fields, leads, pairs):
-    """A record's pairs led over: for each field its lead's worth by the old values, or the old value."""
+    """A record's pairs led over: for each field its lead's worth by the old values, or the old value; else Stuck."""
     old = dict(pairs)
-    return tuple([(field, worth(leads[field], old, {}, {}) if field in leads else old[field]) for field in fields])
+    return tuple([(field, worth(leads[field], old, {}, {}) if field in leads else found(old, field))
+                  for field in fields])

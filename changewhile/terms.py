@@ -87,9 +87,21 @@ def folded(term, told):
     return done[0]
 
 
+def names_within(term):
+    """A list of the names that a term has, each once."""
+    found = []
+    todo = [term]
+    while todo:
+        one = todo.pop()
+        if one[0] == "name" and one[1] not in found:
+            found.append(one[1])
+        todo.extend(parts_of(one))
+    return found
+
+
 def with_names(term, terms):
     """The term with each name in a dict exchanged for its term there, all at once."""
-    return folded(term, lambda one, parts: _with_parts(one, parts) if parts else _exchanged(one, terms))
+    return folded(term, lambda one, parts: with_parts(one, parts) if parts else _exchanged(one, terms))
 
 
 def _exchanged(leaf, terms):
@@ -98,7 +110,7 @@ def _exchanged(leaf, terms):
     return leaf
 
 
-def _with_parts(term, parts):
+def with_parts(term, parts):
     """The term with other terms right within it."""
     if term[0] == "field":
         return ("field", parts[0], term[2])

@@ -25,6 +25,10 @@ INTERFACE = {
     "looking": {"look", "reads_entry"},
     "leading": {"led"},
     "lives": {"Live"},
+    "backs": {"back_of", "undoes", "apart"},
+    "forms": {"alike"},
+    "pairings": {"reads_pairing", "stays_paired"},
+    "pairfinding": {"find_pairing"},
 }
 
 # Each function and method of the interface with its arguments, where there are some, as in "told=1".
@@ -51,6 +55,12 @@ ARGUMENTS = {
     "lives": ["Live.__init__(self, program, start, values)", "Live.program(self)", "Live.state(self)", "Live.mark(self)",
               "Live.step(self)", "Live.look(self, change)", "Live.enter(self, change, way='once')", "Live.asleep(self)",
               "Live.old(self)", "Live.wait(self, change, way='once')", "Live.waiting(self)", "Live.dropped(self)"],
+    "backs": ["back_of(program, change, kindleads, boxleads)", "undoes(program, change, back, state)",
+              "apart(one, other)"],
+    "forms": ["alike(one, other)"],
+    "pairings": ["reads_pairing(program, change, pairing)",
+                 "stays_paired(program, change, pairing, part, own, rest)"],
+    "pairfinding": ["find_pairing(program, change)"],
 }
 
 # The builtins of L8, without those that have rules of their own.

@@ -1,0 +1,70 @@
+"""The search for a pairing of a program and a change of it."""
+
+from changewhile.beside import Beside
+from changewhile.changes import changed
+from changewhile.freeing import likely_frees
+from changewhile.laying import Laying
+from changewhile.pairings import reads_pairing
+from changewhile.papers import own_papers
+from changewhile.turning import Turning
+from changewhile.wanting import Wanting
+
+
+def find_pairing(program, change):
+    """A pairing of a right program and a change, that is read, with as many parts as are found; or None."""
+    behind = changed(program, change)
+    names = [name for name in sorted(behind[2])
+             if name in program[2] and program[2][name][1] == behind[2][name][1]]
+    found = None
+    for free in likely_frees(program, behind, change):
+        parts = _paired_parts(Turning(program, behind, change, free), names)
+        if found is None or len(parts) > len(found[1]):
+            found = (free, parts)
+        if len(found[1]) == len(names):
+            break
+    if not found[1] and program[2] or not reads_pairing(program, change, found):
+        return None
+    return found
+
+
+def _paired_parts(turning, names):
+    """A dict from those of the names whose parts can be paired to their takes' pairs and entries."""
+    left = list(names)
+    takes = _likely_takes(turning, left)
+    while True:
+        layings = _layings(turning, takes, left)
+        wrong = [layings[name].wrong_takes for name in left if layings[name].wrong_takes is not None]
+        kept = [name for name in left if layings[name].entries is not None or layings[name].wrong_takes is not None]
+        if len(kept) < len(left):
+            left = kept
+            takes = _likely_takes(turning, left)
+        elif wrong:
+            for name, pairs in wrong:
+                takes[name] = tuple([pair for pair in takes[name] if pair not in pairs])
+        else:
+            return {name: (takes[name], layings[name].entries) for name in left}
+
+
+def _layings(turning, takes, names):
+    """A dict from the names of parts to their layings."""
+    old, new = own_papers(turning.program), own_papers(turning.behind)
+    wanting = Wanting(turning, takes)
+    layings = {}
+    for name in names:
+        beside = Beside(turning, takes, (turning.program[2][name][2], old[name]),
+                        (turning.behind[2][name][2], new[name]))
+        layings[name] = Laying(beside, wanting, takes[name])
+    return layings
+
+
+def _likely_takes(turning, names):
+    """A dict from the names of parts to the pairs of their takes: by their order, or by what they are called."""
+    return {name: _takes_beside(turning.program[2][name][0], turning.behind[2][name][0]) for name in names}
+
+
+def _takes_beside(old, new):
+    if len(old) == len(new):
+        pairs = [(new[k][0], ("name", old[k][0])) for k in range(len(new)) if new[k][1] == old[k][1]]
+    else:
+        pairs = [(take, ("name", take)) for take, kind in new if (take, kind) in old]
+    return tuple(sorted(pairs))
