@@ -2,7 +2,6 @@
 
 from changewhile.changes import is_lead
 from changewhile.forms import alike
-from changewhile.kinding import kind_of
 from changewhile.terms import names_within, with_names
 
 
@@ -98,12 +97,12 @@ class Beside:
         name = old[2]
         if new[2] != name or name not in self.takes:
             return False
-        return self.wrong_takes(old, new, r, names) == []
+        return self.failing_takes(old, new, r, names) == []
 
-    def wrong_takes(self, old, new, r, names):
+    def failing_takes(self, old, new, r, names):
         """A list of the pairs of the called part's takes that do not hold at a call; None where it is no call of it."""
-        program, behind = self.turning.program, self.turning.behind
-        told = _by_takes(program[2][old[2]], old[3])
+        ahead, behind = self.turning.ahead, self.turning.behind
+        told = _by_takes(ahead[2][old[2]], old[3])
         terms = _by_takes(behind[2][old[2]], new[3])
         if told is None or terms is None:
             return None
@@ -127,13 +126,7 @@ class Beside:
 
     def is_free_write(self, s):
         """Whether a new row is a put of a free box or a set of a free field."""
-        row = self.new_rows[s]
-        if row[0] == "put":
-            return self.turning.is_free_box(row[1])
-        if row[0] != "set" or self.new_paper[s] is None:
-            return False
-        kind = kind_of(row[1], self.new_paper[s], self.turning.behind)
-        return kind is not None and kind[0] == "record" and self.turning.is_free_field(kind[1], row[2])
+        return self.turning.is_free_write(self.new_rows[s], self.new_paper[s])
 
     def old_alone(self, r, s, names):
         """How the old row alone goes on: the same as of both; or None."""

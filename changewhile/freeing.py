@@ -14,7 +14,7 @@ def likely_frees(program, behind, change):
     leads = {(kind, field): lead for kind in change[4] for field, lead in change[4][kind]}
     led = [one for one in fields if one in leads and leads[one][0] != "name"]
     written = Written(program, behind, change, fields)
-    return [_in_order(boxes, led), _in_order(boxes, []), written.free()]
+    return [_in_order(boxes, led), _in_order(boxes, []), written.left_free()]
 
 
 def _shared_fields(program, behind):
@@ -30,7 +30,7 @@ class Written:
     """Finds what the new program only writes, so that it is free where nothing else stands against it."""
 
     def __init__(self, program, behind, change, fields):
-        self.program = program
+        self.ahead = program
         self.behind = behind
         self.change = change
         self.names = [name for name in behind[2] if name in program[2]]
@@ -40,12 +40,12 @@ class Written:
         # The boxes and fields that are not free.
         self.bound = []
 
-    def free(self):
+    def left_free(self):
         """A tuple of boxes and fields."""
         self._bind_unwritten()
         while True:
             many = len(self.bound)
-            turning = Turning(self.program, self.behind, self.change, self._all_free())
+            turning = Turning(self.ahead, self.behind, self.change, self._all_free())
             self._bind_reckoned(turning)
             self._bind_sources(turning)
             if len(self.bound) == many:
@@ -62,13 +62,14 @@ class Written:
     def _bind_unwritten(self):
         """What no new row writes is as it was, and what old rows put is paired."""
         puts = [row[1] for _, _, row in self._rows(self.behind) if row[0] == "put"]
-        old_puts = [row[1] for _, _, row in self._rows(self.program) if row[0] == "put"]
+        old_puts = [row[1] for _, _, row in self._rows(self.ahead) if row[0] == "put"]
         for box in self.behind[1]:
-            if box in self.program[1] and (box not in puts or box in old_puts):
+            if box in self.ahead[1] and (box not in puts or box in old_puts):
                 self._bind(box)
         sets = self._sets(self.behind, self.papers)
         for kind, field in self.fields:
-            if (kind, field) not in sets and field in dict(self.program[0][kind]):
+            lead = dict(self.change[4].get(kind, ())).get(field, ("name", field))
+            if (kind, field) not in sets and lead == ("name", field):
                 self._bind((kind, field))
 
     def _rows(self, program):
@@ -89,7 +90,7 @@ class Written:
         wanting = Wanting(turning, {})
         for name in self.names:
             rows, paper = self.behind[2][name][2], self.papers[name]
-            free_writes = [_is_free_write(turning, row, holding) for row, holding in zip(rows, paper)]
+            free_writes = [turning.is_free_write(row, holding) for row, holding in zip(rows, paper)]
             wanted = wanting.of_new(rows, free_writes)
             for r, row in enumerate(rows):
                 if paper[r] is not None and not free_writes[r]:
@@ -111,17 +112,8 @@ class Written:
 
     def _bind_sources(self, turning):
         """Each old field that is set is to be paired to a new one, the likeliest first."""
-        for kind, old in self._sets(self.program, self.old_papers):
+        for kind, old in self._sets(self.ahead, self.old_papers):
             coming = [one for one in self.fields if one[0] == kind and old in turning.sources_of(kind, one[1])]
             if coming and not any([one in self.bound for one in coming]):
                 same = [one for one in coming if one[1] == old]
                 self._bind((same or coming)[0])
-
-
-def _is_free_write(turning, row, holding):
-    if row[0] == "put":
-        return turning.is_free_box(row[1])
-    if row[0] != "set" or holding is None:
-        return False
-    kind = kind_of(row[1], holding, turning.behind)
-    return kind is not None and kind[0] == "record" and turning.is_free_field(kind[1], row[2])

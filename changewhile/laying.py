@@ -24,18 +24,18 @@ class Laying:
         self.old_marks = [row[1] for row in beside.old_rows if row[0] == "mark"]
         self.new_marks = [row[1] for row in beside.new_rows if row[0] == "mark"]
         # Pairs of two lets of which the new one goes alone.
-        self.split = []
+        self.splits = []
         self.wrong_takes = None
         self.names = {}
         self.ways = {}
         self.entries = self._lay_all(takes)
 
     def _lay_all(self, takes):
-        while len(self.split) < MOST_SPLITS:
-            many = len(self.split)
+        while len(self.splits) < MOST_SPLITS:
+            many = len(self.splits)
             if self._lay(takes):
                 return self._made_entries()
-            if len(self.split) == many:
+            if len(self.splits) == many:
                 return None
         return None
 
@@ -86,9 +86,9 @@ class Laying:
         """Note what may be tried when two rows cannot go on."""
         old, new = self.beside.old_rows[r], self.beside.new_rows[s]
         if old[0] == "let" and new[0] == "let":
-            self.split.append((r, s))
+            self.splits.append((r, s))
         if old[0] == "call" and new[0] == "call" and old[2] == new[2] and old[2] in self.beside.takes:
-            wrong = self.beside.wrong_takes(old, new, r, names)
+            wrong = self.beside.failing_takes(old, new, r, names)
             if wrong:
                 self.wrong_takes = (old[2], wrong)
 
@@ -103,7 +103,7 @@ class Laying:
         if old[0] == "mark" and new[0] == "mark":
             return self._move_of_marks(old[1], new[1])
         if old[0] == new[0]:
-            return "new" if (r, s) in self.split else "both"
+            return "new" if (r, s) in self.splits else "both"
         for word in ("mark", "let", "go"):
             if new[0] == word:
                 return "new"

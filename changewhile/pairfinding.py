@@ -47,11 +47,11 @@ def _paired_parts(turning, names):
 
 def _layings(turning, takes, names):
     """A dict from the names of parts to their layings."""
-    old, new = own_papers(turning.program), own_papers(turning.behind)
+    old, new = own_papers(turning.ahead), own_papers(turning.behind)
     wanting = Wanting(turning, takes)
     layings = {}
     for name in names:
-        beside = Beside(turning, takes, (turning.program[2][name][2], old[name]),
+        beside = Beside(turning, takes, (turning.ahead[2][name][2], old[name]),
                         (turning.behind[2][name][2], new[name]))
         layings[name] = Laying(beside, wanting, takes[name])
     return layings
@@ -59,7 +59,7 @@ def _layings(turning, takes, names):
 
 def _likely_takes(turning, names):
     """A dict from the names of parts to the pairs of their takes: by their order, or by what they are called."""
-    return {name: _takes_beside(turning.program[2][name][0], turning.behind[2][name][0]) for name in names}
+    return {name: _takes_beside(turning.ahead[2][name][0], turning.behind[2][name][0]) for name in names}
 
 
 def _takes_beside(old, new):

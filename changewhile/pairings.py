@@ -20,7 +20,7 @@ def reads_pairing(program, change, pairing):
     old, new = own_papers(program), own_papers(behind)
     for name in parts:
         beside = Beside(turning, takes, (program[2][name][2], old[name]), (behind[2][name][2], new[name]))
-        if program[2][name][1] != behind[2][name][1] or not _are_entries_read(beside, *parts[name]):
+        if program[2][name][1] != behind[2][name][1] or not _are_entries_read(beside, takes[name], parts[name][1]):
             return False
     return True
 

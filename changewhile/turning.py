@@ -9,7 +9,7 @@ class Turning:
     """How the terms of the program behind a change are turned, where some boxes and fields are free."""
 
     def __init__(self, program, behind, change, free):
-        self.program = program
+        self.ahead = program
         self.behind = behind
         self.kind_leads = {name: dict(change[4][name]) for name in change[4]}
         self.box_leads = change[5]
@@ -22,6 +22,15 @@ class Turning:
     def is_free_box(self, box):
         """Whether nothing is paired to a box of the new program."""
         return box in self.free
+
+    def is_free_write(self, row, holding):
+        """Whether a new row, ahead of which a holding is, is a put of a free box or a set of a free field."""
+        if row[0] == "put":
+            return self.is_free_box(row[1])
+        if row[0] != "set" or holding is None:
+            return False
+        kind = kind_of(row[1], holding, self.behind)
+        return kind is not None and kind[0] == "record" and self.is_free_field(kind[1], row[2])
 
     def box_led(self, box, term):
         """What a box is led to by the change, where a term is its old value."""
@@ -52,7 +61,7 @@ class Turning:
         if term[0] == "name":
             return names.get(term[1])
         if term[0] == "box":
-            if self.is_free_box(term[1]) or term[1] not in self.program[1]:
+            if self.is_free_box(term[1]) or term[1] not in self.ahead[1]:
                 return None
             return self.box_led(term[1], term)
         if term[0] == "field":
@@ -68,9 +77,9 @@ class Turning:
 
     def record_kind(self, term, holding):
         """The name of the kind of the records that an old term is worth, or None."""
-        kind = kind_of(term, holding, self.program)
+        kind = kind_of(term, holding, self.ahead)
         return kind[1] if kind is not None and kind[0] == "record" else None
 
     def fields_of(self, kind, record):
         """A dict from the old fields of a kind to the terms of these of a record."""
-        return {field: ("field", record, field) for field, _ in self.program[0][kind]}
+        return {field: ("field", record, field) for field, _ in self.ahead[0][kind]}

@@ -29,7 +29,7 @@ class Wanting:
             return [term for field, term in row[3] if field in self._sources(row[2])]
         if word == "call" and row[2] in self.takes:
             names = [name for _, term in self.takes[row[2]] for name in names_within(term)]
-            return _handed_over(self.turning.program[2][row[2]], row, names)
+            return _handed_over(self.turning.ahead[2][row[2]], row, names)
         return _all_terms(row)
 
     def new_terms(self, row):
@@ -79,11 +79,12 @@ def _wanted_behind(rows, terms):
         r = todo.pop()
         wanted = {name: True for n in next_rows(rows, r) for name in ahead[n]}
         behind[r] = wanted
-        names = [name for term in terms[r] for name in names_within(term)]
+        names = [one for term in terms[r] for one in names_within(term)]
         if rows[r][0] == "let" and rows[r][1] in wanted:
             names.extend(names_within(rows[r][2]))
         gives = rows[r][1] if rows[r][0] in ("let", "new", "call") else ""
-        here = {name: True for name in [*names, *[name for name in wanted if name != gives]]}
+        names.extend([one for one in wanted if one != gives])
+        here = {name: True for name in names}
         if len(here) > len(ahead[r]):
             ahead[r] = here
             todo.extend(leading_to[r])

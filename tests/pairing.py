@@ -3,6 +3,7 @@
 import random
 
 from changewhile.changes import changed
+from changewhile.kinding import kind_of
 from changewhile.papers import papers_of
 from changewhile.terms import folded, with_names
 from tests.making import NUMBER, TRUTH, Maker
@@ -27,15 +28,18 @@ class Pairer(Maker):
         super().__init__(seed)
         self.chance = random.Random(seed + 77)
         self.ways = ways
+        self.more = 0
 
     def change(self, program):
         """A change that only calls names and fields otherwise and puts rows in."""
         self.program, self.old_papers = program, papers_of(program)
+        self.more = self.chance.randrange(1, 9) if "led" in self.ways else 0
         called = FIELDS if "fields" in self.ways else {}
         kinds, leads = {}, {}
         for name, fields in program[0].items():
             own = [(called.get(field, field), kind) for field, kind in fields]
-            told = [(called[field], ("name", field)) for field, _ in fields if field in called]
+            told = [(called.get(field, field), self.led_more(("name", field), kind)) for field, kind in fields
+                    if field in called or self.more and kind == NUMBER]
             if "free" in self.ways:
                 own.append(("log", NUMBER))
                 told.append(("log", ("number", 3)))
@@ -45,7 +49,11 @@ class Pairer(Maker):
         boxes = {"spare": (NUMBER, 4), "sparet": (TRUTH, True)} if "free" in self.ways else {}
         self.freshly = 0
         parts = {name: self.part(name, called) for name in program[2]}
-        change = ((), kinds if leads else {}, boxes, parts, leads, {})
+        boxleads = {}
+        if self.more:
+            boxleads = {box: self.led_more(("name", "it"), NUMBER) for box in program[1] if program[1][box][0] == NUMBER}
+            boxes.update({box: program[1][box] for box in boxleads})
+        change = ((), kinds if leads else {}, boxes, parts, leads, boxleads)
         changed(program, change)
         return change
 
@@ -65,9 +73,25 @@ class Pairer(Maker):
                 for _ in range(self.chance.choice((0, 0, 1, 2))):
                     new.append(self.row_put_in(name, r))
             at.append((ahead, len(new)))
+            self.holding = self.old_papers[name][r] or ()
             new.append(self.renamed(row, called))
         new = [self.led(row, at) if k in [one[1] for one in at] else row for k, row in enumerate(new)]
         return (tuple((self.called[take], kind) for take, kind in takes), gives, tuple(new))
+
+    def led_more(self, term, kind):
+        """A number led to be some more, as all numbers in boxes and fields are."""
+        return ("add", term, ("number", self.more)) if self.more and kind == NUMBER else term
+
+    def with_less(self, term):
+        """The term with the boxes and fields that have some more made less again."""
+        def told(one, parts):
+            made = ("field", parts[0][0], one[2]) if one[0] == "field" else (
+                (one[0], *[part for part, _ in parts]) if parts else one)
+            old = ("field", parts[0][1], one[2]) if one[0] == "field" else one
+            if one[0] in ("box", "field") and self.more and kind_of(old, self.holding, self.program) == NUMBER:
+                made = ("less", made, ("number", self.more))
+            return (made, one)
+        return folded(term, told)[0]
 
     def led(self, row, at):
         """The row, leading to where its rows are now, or to what is put in right ahead of them."""
@@ -79,17 +103,22 @@ class Pairer(Maker):
 
     def renamed(self, row, called):
         def told(term):
+            term = self.with_less(term)
             return with_fields(with_names(term, {old: ("name", new) for old, new in self.called.items()}), called)
 
         word = row[0]
+        kinds, boxes, _ = self.program
         if word == "let":
             return ("let", self.called[row[1]], told(row[2]))
         if word == "put":
-            return ("put", row[1], told(row[2]))
+            return ("put", row[1], self.led_more(told(row[2]), boxes.get(row[1], (None,))[0]))
         if word == "set":
-            return ("set", told(row[1]), called.get(row[2], row[2]), told(row[3]))
+            kind = kind_of(row[1], self.holding, self.program)
+            field = dict(kinds[kind[1]])[row[2]] if self.more and kind else None
+            return ("set", told(row[1]), called.get(row[2], row[2]), self.led_more(told(row[3]), field))
         if word == "new":
-            fields = [(called.get(field, field), told(term)) for field, term in row[3]]
+            own = dict(kinds[row[2]])
+            fields = [(called.get(field, field), self.led_more(told(term), own.get(field))) for field, term in row[3]]
             if "free" in self.ways:
                 fields.append(("log", ("number", self.chance.randrange(5))))
             return ("new", self.called[row[1]], row[2], tuple(sorted(fields)))

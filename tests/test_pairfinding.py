@@ -242,6 +242,7 @@ def put_in(part, at, row, to_it=False):
 def called(part, other):
     """The part with its names called otherwise."""
     pairer = Pairer(0, ())
+    pairer.program, pairer.holding = PROGRAM, ()
     pairer.called = {name: other.get(name, name) for name in "abcdefghijklmnopqrstuvwxyz"} | {
         name: other.get(name, name) for name in ("add", "za", "zb", "zc")}
     takes, gives, rows = part
@@ -312,7 +313,8 @@ class WholeRuns(unittest.TestCase):
     def test_what_is_found(self):
         ran = 0
         for seed, program in enumerate(made_programs(50)):
-            for ways in (("names",), ("fields", "free"), ("rows", "names"), ("names", "fields", "free", "rows")):
+            for ways in (("names",), ("fields", "free"), ("rows", "names"), ("led", "rows"),
+                         ("names", "fields", "free", "rows")):
                 change = Pairer(seed, ways).change(program)
                 pairing = find_pairing(program, change)
                 self.assertEqual(sorted(pairing[1]), sorted(program[2]))
@@ -340,7 +342,7 @@ class WholeRuns(unittest.TestCase):
     def test_changes_made_otherwise(self):
         read = ran = 0
         for seed, program in enumerate(made_programs(40)):
-            ways = self.chance.choice((("names",), ("rows",), ("fields", "free"), ("names", "rows", "free")))
+            ways = self.chance.choice((("names",), ("rows",), ("led", "free"), ("fields", "free"), ("names", "rows", "free")))
             change = Pairer(seed, ways).change(program)
             pairing = find_pairing(program, change)
             for _ in range(6):
