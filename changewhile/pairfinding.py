@@ -17,7 +17,7 @@ def find_pairing(program, change):
              if name in program[2] and program[2][name][1] == behind[2][name][1]]
     found = None
     for free in likely_frees(program, behind, change):
-        parts = _paired_parts(Turning(program, behind, change, free), names)
+        parts = _most_parts(Turning(program, behind, change, free), names)
         if found is None or len(parts) > len(found[1]):
             found = (free, parts)
         if len(found[1]) == len(names):
@@ -27,14 +27,25 @@ def find_pairing(program, change):
     return found
 
 
-def _paired_parts(turning, names):
+def _most_parts(turning, names):
     """A dict from those of the names whose parts can be paired to their takes' pairs and entries."""
+    kept = _paired_parts(turning, names, False)
+    if len(kept) == len(names):
+        return kept
+    # Fewer takes may do for more parts; but no part is to be lost by what others hand over to it.
+    other = _paired_parts(turning, names, True)
+    return other if all([name in other for name in kept]) else kept
+
+
+def _paired_parts(turning, names, may_lose_takes):
+    """The same, where either all takes stay paired, or those that do not hold at some call are left out."""
     left = list(names)
     takes = _likely_takes(turning, left)
     while True:
         layings = _layings(turning, takes, left)
         wrong = [layings[name].wrong_takes for name in left if layings[name].wrong_takes is not None]
-        kept = [name for name in left if layings[name].entries is not None or layings[name].wrong_takes is not None]
+        kept = [name for name in left if layings[name].entries is not None
+                or may_lose_takes and layings[name].wrong_takes is not None]
         if len(kept) < len(left):
             left = kept
             takes = _likely_takes(turning, left)

@@ -196,8 +196,16 @@ class Undoes(unittest.TestCase):
         self.told("out many\n", True, self.with_values(many=5))
         self.told("out flag\n", False)
         self.told("out flag\n", True, self.with_values(flag=True))
+        self.told("out unit\n", False, self.with_records({"r0": ("unit", ())}))
+        self.told("out unit\n", True, self.with_records({"r0": ("", ()), "r1": ("gone", (("a", 1),))}))
         self.told("out gone\n", False)
         self.told("out gone\n", True, self.with_records({"r0": ("node", (("n", 3), ("to", ()))), "r1": ("", ())}))
+
+    def test_another_change_than_the_one_back(self):
+        change = read_change("box aa number = 1\nbox many number = 1\nlead many 8\n")
+        for text, wanted in (("out aa\n", True), ("", False), ("out aa\nout many\n", False),
+                             ("out aa\nbox many number = 1\nlead many (add it 1)\n", False)):
+            self.assertIs(undoes(PROGRAM, change, read_change(text), STATE), wanted)
 
     def test_states_without_records_and_ended_ones(self):
         for state in (self.with_records({}), self.with_records({"r0": ("", ())})):

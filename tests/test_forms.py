@@ -26,7 +26,8 @@ ALIKE = [
      "(less (times 3 x) (times 2 x))", "(pick yes x y)", "(pick no y x)", "(pick t x x)", "(pick t x (add 0 x))",
      "(at (list y x) 1 z)", "(at (list y z) 2 x)", "(at (empty number) i x)", "(at xs 60 x)",
      "(at (join (list y) (list x)) 1 z)", "(pick (same y y) x z)", "(at (list x) (less 5 5) y)",
-     "(pick (not (not yes)) x z)", "(pick (under x 0) z x)"],
+     "(pick (not (not yes)) x z)", "(pick (under x 0) z x)", "(at (join (list x) xs) 0 z)",
+     "(at (join (join (list y) (list x)) xs) 1 z)"],
     ["0", "(times 0 x)", "(less x x)", "(times (less x x) (field p f))", "(add 1 999999999999)",
      "(times 1000000 (times 1000000 y))", "(many (empty number))", "(less (many (list x)) 1)", "(times x (less 2 (add 1 1)))"],
     ["6", "(times 2 3)", "(add 1 (add 2 3))", "(less 3 999999999997)", "(pick yes 6 x)", "(at (list 5 6 7) 1 0)"],
@@ -66,7 +67,9 @@ UNLIKE = [
     ("(times 2 x)", "(times 500000000002 x)"), ("(at (list x y) i z)", "x"), ("(at (list x y) 1 z)", "x"),
     ("(at (list x y) 2 z)", "y"), ("(at xs 59 x)", "x"), ("(at xs 0 x)", "x"), ("(join xs (list x))", "xs"), ("(under x 1)", "no"),
     ("(under 999999999998 x)", "no"), ("(not (same x y))", "(same x y)"), ("(pick t x y)", "x"), ("(list x)", "(list (list x))"),
-    ("(many (list x y))", "(many (list x))"), ("(same (list x) (list y))", "no"), ("(same (list 1) xs)", "no"),
+    ("(many (list x y))", "(many (list x))"), ("(same (list x) (list y))", "no"),
+    ("(same (list x) (list y))", "yes"), ("(same (list 1 x) (list 1 y))", "yes"), ("(same (list 1) xs)", "yes"),
+    ("(at (join xs (list y)) 0 z)", "y"), ("(at (join (list x) xs) 1 z)", "z"), ("(many (join (list x) xs))", "1"), ("(same (list 1) xs)", "no"),
     ("(add (times x y) z)", "(times x (add y z))"), ("(less x 1)", "(add x 99999999999)"), ("(empty number)", "(list 0)"),
 ]
 

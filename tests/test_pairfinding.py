@@ -198,6 +198,75 @@ class Found(unittest.TestCase):
         sub = "part sub (p n, add number, more truth) number\n" + SUB.split("\n", 1)[1]
         self.found(MAIN.replace("p #sum", "p #sum yes") + sub, "main", "sub")
 
+    def test_takes_that_do_not_hold(self):
+        program = read_program("part main (k number) number\n  call x sub k 1\n  call y sub x k\n  back y\n"
+                               "part sub (a number, b number) number\n  tell a\n  back a\n")
+        told = self.found("part main (k number) number\n  call x sub k 2\n  call y sub x k\n  back y\n", "main", "sub",
+                          program=program)
+        self.assertEqual(told[1]["sub"][0], names("a a"))
+        self.found("part main (k number) number\n  call x sub 2 1\n  call y sub x k\n  back y\n", "sub", program=program)
+        more = program_text(program) + "part two (k number) number\n  call x sub k 3\n  back x\n"
+        self.found("part two (k number) number\n  call x sub k 4\n  back x\n", "main", "sub", "two",
+                   program=read_program(more))
+        self.found("part two (k number) number\n  call x sub 1 3\n  back x\n", "main", "sub", program=read_program(more))
+
+    def test_lets_in_another_order(self):
+        program = read_program("part main (k number) number\n  let a 1\n  tell (add k 3)\n  tell a\n  back a\n")
+        self.found("part main (k number) number\n  let s (add k 3)\n  let a 1\n  tell s\n  tell a\n  back a\n", "main",
+                   program=program)
+        self.found("part main (k number) number\n  let s (add k 4)\n  let a 1\n  tell s\n  tell a\n  back a\n",
+                   program=program)
+
+    def test_names_for_what_grows_and_grows(self):
+        program = read_program("part main (sz number) number\n  tell (times 33554432 sz)\n  back 0\n")
+        letters = "zabcdefghijklmnopqrstuvwxy"
+        rows = ["  let s{} (add s{} s{})\n".replace("{}", letters[k + 1], 1).replace("{}", letters[k]) for k in range(25)]
+        for many in (3, 25):
+            text = "part main (sz number) number\n" + "".join(rows[:many]) + "  tell s{}\n  back 0\n"
+            told = find_pairing(program, read_change(text.replace("{}", letters[many])))
+            self.assertTrue(told is None or reads_pairing(program, read_change(text.replace("{}", letters[many])), told))
+        self.found("part main (sz number) number\n" + "".join(rows[:3])
+                   + "  tell (times 4194304 sd)\n  back 0\n".replace("sd", "s" + letters[3]), "main", program=program)
+
+    def test_marks(self):
+        program = read_program("part main () number\n  mark a\n  tell 1\n  mark b\n  go 0\n")
+        for rows in ("  mark b\n  tell 1\n  mark a\n  go 0\n", "  tell 1\n  mark b\n  go 0\n", "  tell 1\n  go 0\n",
+                     "  mark z\n  mark a\n  tell 1\n  mark y\n  mark b\n  mark x\n  go 1\n",
+                     "  mark z\n  tell 1\n  mark y\n  go 0\n", "  mark b\n  mark a\n  tell 1\n  go 0\n"):
+            self.found("part main () number\n" + rows, "main", program=program)
+        program = read_program("part main () number\n  mark a\n  go 0\n")
+        for rows in ("  mark b\n  go 0\n", "  go 0\n", "  mark b\n  mark a\n  let x 1\n  go 1\n"):
+            self.found("part main () number\n" + rows, "main", program=program)
+
+    def test_rows_round_and_round_that_say_nothing(self):
+        program = read_program("part main () number\n  let x 1\n  go 0\n")
+        self.found("part main () number\n  let y 2\n  let y 3\n  go 1\n", "main", program=program)
+        self.found("part main () number\n  mark a\n  unless yes 0\n  back 0\n", program=program)
+        # Gos alone may not go round.
+        self.found("part main () number\n  go 1\n  go 2\n  go 0\n", "main", program=program)
+        program = read_program("part main () number\n  back 0\n")
+        self.found("part main () number\n  go 1\n  go 0\n", program=program)
+        self.found("part main () number\n  go 1\n  go 2\n  back 0\n", "main", program=program)
+
+    def test_what_is_free_by_what_is_written(self):
+        program = read_program("kind m g number\nkind n f number\nbox b number = 1\nbox c number = 2\n"
+                               "part main () number\n  new p n f 1\n  new q m g 2\n  set p f 3\n  put b 4\n  tell #b\n"
+                               "  back (field q g)\n")
+        head = "part main () number\n  new p n a 1, log 9\n  new q m g 2\n"
+        # a is what f was, and is set as f was; log is led as f, too, but set otherwise.
+        text = "kind n a number, log number\n" + head + "  set p log 7\n  set p a 3\n  put c 9\n  put b 4\n  tell #b\n"
+        told = self.found(text + "  put c (add #c #b)\n  back (field q g)\nlead n a f, log f\n", "main", program=program)
+        self.assertEqual(told[0], ("c", ("n", "log")))
+        # What is reckoned in what is told is not free, be it without bearing on it.
+        self.found(text + "  put c (add #c #b)\n  back (less (add (field q g) #c) #c)\nlead n a f, log f\n", program=program)
+        self.found(text + "  put b 5\n  back (field q g)\nlead n a f, log f\n", program=program)
+        self.found(text + "  back (add (field q g) #c)\nlead n a f, log f\n", program=program)
+        # One field is free, another one is led otherwise and told.
+        text = ("kind m g number, h number\nkind n f number, log number\npart main () number\n  new p n f 1, log 3\n"
+                "  new q m g 7, h 2\n  set p f 3\n  set p log (field q g)\n  put b 4\n  tell #b\n  back (less (field q g) 5)\n"
+                "lead m g (add g 5), h g\nlead n log 0\n")
+        self.found(text, "main", program=program)
+
     def test_programs_without_parts(self):
         self.assertIn(find_pairing(({}, {}, {}), read_change("")), (None, ((), {})))
         self.found("out main\nout sub\n")

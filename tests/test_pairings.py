@@ -206,6 +206,8 @@ class BothRows(Paired):
         self.told("set p f (add x 1)", "set p f (add 1 x)", True, behind=SAME)
         self.told("set p f x", "set p f y", False)
         self.told("set p f x", "set (at #ps 0 p) f x", False)
+        self.told("set p f x", "set (at #ps 0 p) f x", False, free=(("n", "g"),))
+        self.told("set p f x", "set (pick l p p) f x", True, free=(("n", "g"),))
         self.told("set p f x", "set p g (empty n)", False)
         self.told("set p g (list p)", "set p g (join (list p) (empty n))", True)
         self.told("set p f x", "set p f x", True, free=(("n", "f"),))
@@ -498,6 +500,33 @@ class Pairings(Paired):
         self.assertFalse(reads_pairing(program, change, ((), {"main": (names(SAME), entries(*main))})))
         self.assertFalse(reads_pairing(program, change, ((), {"main": (names(SAME), entries(main[0], "4 4 0 x y"))})))
 
+    def test_rows_that_no_way_comes_to_and_that_are_wrong(self):
+        # What such rows name may lack, or be handed too little: they do not go on.
+        for row in ("set p f x", "set x f x", "call z sub x", "call z lost", "new z n f x", "new z lost", "call z sub"):
+            for other in (row, "set p f x", "call z sub x y", "new z n f x, g (empty n)"):
+                for old, new in ((row, other), (other, row)):
+                    if old == new == "call z sub x y" or row.split(" ")[0] != other.split(" ")[0]:
+                        continue
+                    rows = "  back 0\n  {}\n  back 0\n"
+                    program, change = self.program(rows.replace("{}", old)), self.change(rows.replace("{}", new))
+                    main = (names(SAME), entries("0 0 0", "1 1 0 " + SAME, "2 2 0"))
+                    self.assertFalse(reads_pairing(program, change, ((), {"main": main, "sub": self.SUB})), (old, new))
+                    main = (names(SAME), entries("0 0 0"))
+                    self.assertTrue(reads_pairing(program, change, ((), {"main": main, "sub": self.SUB})))
+
+    def test_kinds_and_parts_of_one_shape(self):
+        program = read_program("kind aa\nkind bb\npart main () number\n  new x aa\n  call y one\n  back y\n"
+                               "part one () number\n  back 1\npart two () number\n  back 1\n")
+        paired = ((), entries("0 0 0"))
+        pairing = ((), {"main": ((), entries("0 0 0", "1 1 0 x x", "2 2 0 y y")), "one": paired, "two": paired})
+        for made, part, wanted in (("aa", "one", True), ("bb", "one", False), ("aa", "two", False), ("bb", "two", False)):
+            change = read_change("part main () number\n  new x " + made + "\n  call y " + part + "\n  back y\n")
+            self.assertIs(reads_pairing(program, change, pairing), wanted)
+        for made in ("aa", "bb"):
+            change = read_change("part main () number\n  new x " + made + "\n  back 0\n")
+            self.assertIs(reads_pairing(changed(program, read_change("part main () number\n  new x aa\n  back 0\n")), change,
+                                        ((), {"main": ((), entries("0 0 0", "1 1 0"))})), made == "aa")
+
     def test_names_called_otherwise_a_free_box_and_rows_put_in(self):
         text = ("box log number = 0\npart main () number\n  let tmp 9\n  let j 0\n  put log tmp\n  unless (under j #b) 10\n"
                 "  mark other\n  mark here\n  tell (times j j)\n  let j (add j 1)\n  put log (add #log j)\n  go 2\n"
@@ -536,6 +565,19 @@ class Pairings(Paired):
                         ((), {**good, "main": ((), self.MAIN[1] + ((7, 7, -1, ()),))}),
                         ((), {**good, "sub": (names("a a, d d"), entries("0 0 0 a a, d d") + ((0, 0, 0, (("a", ("box", "b")),)),))})):
             self.told(pairing, False)
+        bare = read_program("part main () number\n  back 0\npart sub (a number) number\n  back 0\n")
+        for takes, told, wanted in [
+                ((), ((0, 0, 0, ()),), True), (names("a a"), entries("0 0 0 a a"), True), (names("a z"), entries("0 0 0"), False),
+                (names("z a"), entries("0 0 0"), False), ((("a", ("box", "b")),), entries("0 0 0"), False),
+                ((("a", ("field", ("name", "a"), "f")),), entries("0 0 0"), False), ((), ((0, 0, 0),), False),
+                ((), ((0, 0, 0, (), ()),), False), ((), ((0, 0, True, ()),), False), ((), ((False, 0, 0, ()),), False),
+                ((), ((0, 0, "0", ()),), False), ((), ((0, 0, 0, ()), (0, 0, 0, (("zz", ("box", "b")),))), False),
+                ((), ((0, 0, 0, ()), (0, 0, 0, (("zz", ("add", ("name", "a"), ("box", "b"))),))), False),
+                ((), ((0, 0, 0, ()), (0, 0, 0, (("zz", ("name", "zz")),))), True), ((), ((0, 0, 0, ()), (0, 0, 0, ("zz",))), False)]:
+            self.assertIs(reads_pairing(bare, read_change(""), ((), {"sub": (takes, told)})), wanted, (takes, told))
+        gone = read_change("out sub\npart more () number\n  back 0\n")
+        for name, wanted in (("main", True), ("sub", False), ("more", False), ("lost", False), (("main",), False), (1, False)):
+            self.assertIs(reads_pairing(bare, gone, ((), {name: ((), ((0, 0, 0, ()),))})), wanted, name)
         for thing in odd_things():
             for pairing in (thing, (thing, good), ((), thing), ((thing,), good), ((), {**good, "sub": thing}),
                             ((), {**good, "sub": (thing, self.SUB[1])}), ((), {**good, "sub": (self.SUB[0], thing)}),
@@ -630,6 +672,10 @@ class Stays(Paired):
         self.told(rows, False, rest=(None, x, x), own=(x, x, ()))
         self.told(rows, False, rest=full, own=(x, x, None))
         self.told(rows, True, rest=(None, None, x), own=(None, None, x))
+        rows = "  mark here\n  mark there\n  tell x\n  back 0\n"
+        self.told(rows, True, rest=(None, x, x, ()))
+        self.told(rows, False, rest=(None, (), x, ()))
+        self.told(rows, False, rest=(None, x, x, x), own=(x, (), x, ()))
 
     def test_kinds_are_by_the_frames_own_paper(self):
         rows = "  mark here\n  tell (field p f)\n  back 0\n"
