@@ -393,6 +393,25 @@ class Enter(Told):
         self.assertEqual(live.mark(), "here")
         self.assertTrue(alike(live.look(read_change("")), ((None, x, x, x, x, x),)))
 
+    def test_many_frames_of_one_part(self):
+        # At two rows with the same that is held, and, behind a change, at one row with something else held.
+        program = read_program("box b number = 1\npart f (n number) number\n"
+                               "  let a #b\n  let x 0\n  mark here\n  unless (under n 2) 6\n  call x f (add n 1)\n  back x\n"
+                               "  unless (under n 7) 9\n  call x f (add n 1)\n  back (add x 1)\n  back n\n"
+                               "part main () number\n  call x f 0\n  back x\n")
+        change = read_change("box b truth = no\nlead b (under it 1)\n")
+        for at in range(8):
+            live, model = Live(program, "main", ()), Model(program, "main", ())
+            while live.state()[4] is None:
+                if live.mark():
+                    self.assertTrue(alike(list(live.look(read_change(""))), model.looked(read_change(""))))
+                    if len(live.state()[2]) == at + 2:
+                        live.enter(change)
+                        model.enter(change, "once")
+                live.step()
+                model.step()
+            self.assertEqual(live.state()[4], ("back", 12))
+
     def test_several_changes_at_once_each_for_the_program_of_then(self):
         live = live_at("loop")
         live.enter(read_change("out unit\n"))
