@@ -6,7 +6,7 @@ from changewhile.values import LONGEST_TUPLE, NUMBERS, alike_values
 # Sums that would come to more products than these stay as they are, multiplied by one another.
 MOST_PRODUCTS = 1000
 # And so do sums of which more pairs than these would be multiplied.
-MOST_PAIRS = 50000
+MOST_PAIRS = 100000
 
 
 class Form:

@@ -9,7 +9,8 @@ def likely_frees(sides):
     """A list of what may be free, in the order in which it is tried: tuples of boxes and pairs (kind, field)."""
     boxes = [box for box in sides.behind[1] if box not in sides.ahead[1]]
     led = [(kind, field) for kind in sides.change[4] for field, lead in sides.change[4][kind] if lead[0] != "name"]
-    return [_in_order(boxes, led), _in_order(boxes, []), Written(sides).left_free()]
+    return [_in_order(boxes, led), _in_order(boxes, []), Written(sides, True).left_free(),
+            Written(sides, False).left_free()]
 
 
 def _in_order(boxes, fields):
@@ -19,8 +20,10 @@ def _in_order(boxes, fields):
 class Written:
     """Finds what the new program only writes, so that it is free where nothing else stands against it."""
 
-    def __init__(self, sides):
+    def __init__(self, sides, keeps_unwritten):
+        """With sides, and whether fields that no new row sets, and no lead leads otherwise, are not free."""
         self.sides = sides
+        self.keeps_unwritten = keeps_unwritten
         kinds = sides.behind[0]
         self.fields = [(kind, field) for kind in kinds if kind in sides.ahead[0] for field, _ in kinds[kind]]
         # The boxes and fields that are not free.
@@ -47,15 +50,19 @@ class Written:
 
     def _bind_unwritten(self):
         """What no new row writes is as it was, and what old rows put is paired."""
-        ahead, behind, change = self.sides.ahead, self.sides.behind, self.sides.change
+        ahead, behind = self.sides.ahead, self.sides.behind
         puts = [row[1] for _, _, row in self._rows(behind) if row[0] == "put"]
         old_puts = [row[1] for _, _, row in self._rows(ahead) if row[0] == "put"]
         for box in behind[1]:
             if box in ahead[1] and (box not in puts or box in old_puts):
                 self._bind(box)
-        sets = self._sets(behind, self.sides.new_papers)
+        if self.keeps_unwritten:
+            self._bind_unwritten_fields()
+
+    def _bind_unwritten_fields(self):
+        sets = self._sets(self.sides.behind, self.sides.new_papers)
         for kind, field in self.fields:
-            lead = dict(change[4].get(kind, ())).get(field, ("name", field))
+            lead = dict(self.sides.change[4].get(kind, ())).get(field, ("name", field))
             if (kind, field) not in sets and lead == ("name", field):
                 self._bind((kind, field))
 

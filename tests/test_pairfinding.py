@@ -261,6 +261,16 @@ class Found(unittest.TestCase):
         self.found(text + "  put c (add #c #b)\n  back (less (add (field q g) #c) #c)\nlead n a f, log f\n", program=program)
         self.found(text + "  put b 5\n  back (field q g)\nlead n a f, log f\n", program=program)
         self.found(text + "  back (add (field q g) #c)\nlead n a f, log f\n", program=program)
+        # A field that stays, while all rows go by one that is led as it was.
+        program = read_program("kind n f number\npart main () number\n  new p n f 1\n  set p f 3\n  back (field p f)\n")
+        told = self.found("kind n f number, g number\npart main () number\n  new p n f 0, g 1\n  set p g 3\n"
+                          "  back (field p g)\nlead n g f\n", "main", program=program)
+        self.assertEqual(told[0], (("n", "f"),))
+
+    def test_what_is_free_and_what_is_led_otherwise(self):
+        program = read_program("kind m g number\nkind n f number\nbox b number = 1\nbox c number = 2\n"
+                               "part main () number\n  new p n f 1\n  new q m g 2\n  set p f 3\n  put b 4\n  tell #b\n"
+                               "  back (field q g)\n")
         # One field is free, another one is led otherwise and told.
         text = ("kind m g number, h number\nkind n f number, log number\npart main () number\n  new p n f 1, log 3\n"
                 "  new q m g 7, h 2\n  set p f 3\n  set p log (field q g)\n  put b 4\n  tell #b\n  back (less (field q g) 5)\n"
