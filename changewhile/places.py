@@ -31,7 +31,7 @@ class Ways:
     def places(self, start, at_mark):
         """The places at a mark, which stands at one itself, from a start, sorted."""
         name, row = at_mark
-        called = self.from_part[start]
+        called = self.from_part.get(start, {})
         if self.papers[name][row] is None or name not in called:
             return ()
         places = [at_mark]

@@ -191,11 +191,10 @@ class Made(Told):
         self.assertIsNone(live.mark())
         live.step()
         self.assertIsNone(live.mark())
-        for end in (read_program("part main () number\n  mark here\n  call x main\n  back x\n"),):
-            live = Live(end, "main", ())
-            for _ in range(200):
-                live.step()
-            self.assertEqual((live.state()[4], live.mark(), len(live.state()[2])), (("deep",), None, 60))
+        live = Live(read_program("part main () number\n  mark here\n  call x main\n  back x\n"), "main", ())
+        for _ in range(200):
+            live.step()
+        self.assertEqual((live.state()[4], live.mark(), len(live.state()[2])), (("deep",), None, 60))
 
     def test_programs_that_are_not_right(self):
         wrong = read_program("kind a n lost\npart main (x number) number\n  tell yes\n  back x\n")
@@ -850,7 +849,7 @@ class WholeRuns(Told):
             live, steps = Live(program, "main", ()), 0
             live.wait(read_change("kind n j truth, k number, to [n]\npart main () number\n  back 0\nlead n j (under k 5), k "
                                   "(times k 3)\n"), way)
-            while live.state()[4] is None if steps % 500 == 0 else live.run.end is None:
+            while live.run.end is None:
                 live.step()
                 steps += 1
             self.assertGreater(steps, 5000)

@@ -138,6 +138,10 @@ class Look(Looked):
         self.let_in("", "unmet", ("lone", 0), start="lone")
         self.let_in("", "low", ("deep", 1), ("deep", 3), start="deep")
 
+    def test_a_start_that_is_no_part(self):
+        self.assertTrue(alike(self.look("", "lost"), dict.fromkeys(("held", "loop", "low", "never", "unmet"), ("in", {}))))
+        self.assertEqual(places_at(WHOLE, "lost", "low"), ())
+
     def test_a_part_alone(self):
         put = MAIN.replace("add i 1", "add i 2")
         self.let_in(put, "loop", ("main", 3))
