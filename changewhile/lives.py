@@ -21,9 +21,10 @@ class Live:
         # the rest's paper of a later change says nothing of that row.
         self.own = [paper]
         self.came_with = [paper[0]]
-        # Pairs (change, way); and the program behind the first one of them, where that is known.
+        # Pairs (change, way); and the program behind the first one of them and rests by it, as far as they are known.
         self.waiters = []
         self.behind_first = None
+        self.first_rests = []
         self.drops = 0
 
     def program(self):
@@ -65,16 +66,18 @@ class Live:
 
     def look(self, change):
         """A tuple of papers, one for each frame; else NoFit, NoLead, NotRight or NotNow."""
-        return tuple(self._rests(changed(self.run.program(), change)))
+        return tuple(self._rests(changed(self.run.program(), change), []))
 
-    def _rests(self, behind):
-        """A list of the papers of all frames' rests by the program behind a change; else NotNow."""
+    def _rests(self, behind, known):
+        """A list of the papers of all frames' rests by the program behind a change; else NotNow.
+
+        With a list of the rests that are known, to which others are added.
+        """
         if self.mark() is None:
             raise NotNow(-1, -1)
         frames = self.run.frames
         papers = []
         # Calls that call themselves have many frames with one rest: it is grown once.
-        known = []
         for k, (_, part, r, _) in enumerate(frames):
             given = frames[k + 1][1][1] if k + 1 < len(frames) else None
             begins = beginning(part[2][r], self.came_with[k], given)
@@ -89,15 +92,15 @@ class Live:
 
     def enter(self, change, way="once"):
         """Let a change come in now, by way "once" or "touch"; else NoFit, NoLead, NotRight or NotNow."""
-        self._go_by(changed(self.run.program(), change), change, way)
+        self._go_by(changed(self.run.program(), change), [], change, way)
 
-    def _go_by(self, behind, change, way):
-        """Let a change come in, behind which a program is; else NotNow."""
-        self.own = self._rests(behind)
+    def _go_by(self, behind, known, change, way):
+        """Let a change come in, behind which a program is, with a list of known rests; else NotNow."""
+        self.own = self._rests(behind, known)
         self.run.standing.lead_over(self.run.program(), change, way)
         self.run.go_by(behind)
         self.papers = own_papers(behind)
-        self.behind_first = None
+        self._forget_first()
 
     def asleep(self):
         """The names of the boxes and the refs that sleep, sorted."""
@@ -124,14 +127,19 @@ class Live:
             except (NoFit, NoLead, NotRight):
                 self.drops += 1
             self.waiters.pop(0)
-            self.behind_first = None
+            self._forget_first()
 
     def _let_in_first(self):
-        # What waits long is looked at again and again: the program behind it is made once.
+        # What waits long is looked at again and again: the program behind it is made once, and so are the rests.
         change, way = self.waiters[0]
         if self.behind_first is None:
             self.behind_first = changed(self.run.program(), change)
-        self._go_by(self.behind_first, change, way)
+        self._go_by(self.behind_first, self.first_rests, change, way)
+
+    def _forget_first(self):
+        """Forget what is known of the change that waits first: it is another one, or for another program."""
+        self.behind_first = None
+        self.first_rests = []
 
     def waiting(self):
         """How many changes wait."""

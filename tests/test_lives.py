@@ -762,6 +762,21 @@ class Waiting(Told):
         live.step()
         self.assertEqual(self.told(live), (0, 1))
 
+    def test_what_was_known_of_the_one_that_waits_is_forgotten(self):
+        program = read_program("kind held\nbox b number = 1\npart main () number\n  call x sub\n  let a #b\n  mark low\n"
+                               "  go 0\npart sub () number\n  new h held\n  mark here\n  let h 0\n  mark there\n  back 0\n")
+        live = Live(program, "main", ())
+        live.wait(read_change("out held\npart sub () number\n  back 0\n"))
+        while live.mark() != "there":
+            live.step()
+        live.enter(read_change("box b truth = no\nlead b (under it 1)\n"))
+        self.assertEqual(self.told(live), (1, 0))
+        while live.mark() != "low":
+            live.step()
+        self.assertEqual((self.told(live), live.old()), ((0, 0), []))
+        held = (("a", TRUTH), ("x", NUMBER))
+        self.assertTrue(alike(live.look(read_change("")), ((held,) * 4,)))
+
     def test_at_the_end_nothing_comes_in(self):
         program = read_program("part main () number\n  tell 1\n  back 0\n")
         live = Live(program, "main", ())
@@ -876,6 +891,32 @@ class WholeRuns(Told):
         for _ in range(200):
             live.step()
         self.assertEqual((live.state()[0], live.program()[0], len(live.state()[3])), ({"b": 8}, {}, 20))
+
+    def test_what_waits_long_for_many_frames(self):
+        # Sixty frames of twenty parts, of which only the last one forbids it.
+        names = ["p" + letter for letter in "abcdefghijklmnopqrst"]
+        parts = {}
+        for k, name in enumerate(names):
+            rows = [("let", "y", ("add", ("name", "x"), ("number", r))) for r in range(50)]
+            rows += [("unless", ("under", ("name", "x"), ("number", 56)), 53),
+                     ("call", "x", names[(k + 1) % 20], (("add", ("name", "x"), ("number", 1)),)), ("back", ("name", "x")),
+                     ("new", "h", "held", ()), ("mark", "m" + name), ("tell", ("number", 1)), ("go", 54)]
+            parts[name] = ((("x", NUMBER),), NUMBER, tuple(rows))
+        program = ({"held": ()}, {}, parts)
+        live = live_at("mpq", program, "pa", (0,))
+        self.assertEqual(len(live.state()[2]), 57)
+        change = (("held",), {}, {}, {name: ((("x", NUMBER),), NUMBER, (("back", ("name", "x")),)) for name in names}, {}, {})
+        with self.assertRaises(NotNow) as caught:
+            live.look(change)
+        self.assertEqual((caught.exception.frame, caught.exception.row), (56, 54))
+        live.wait(change)
+        for _ in range(3000):
+            live.step()
+        self.assertEqual((live.waiting(), live.dropped(), len(live.state()[3])), (1, 0, 1000))
+        # Behind another change it is looked at for the program of then.
+        live.enter(((), {"more": ()}, {}, {}, {}, {}))
+        live.step()
+        self.assertEqual((live.waiting(), live.dropped(), live.old()), (1, 0, []))
 
     def test_what_waits_long_does_not_make_the_run_slow(self):
         names = ["p" + letter for letter in "abcdefghijklmnopqrs"]
