@@ -67,7 +67,7 @@ class Standing:
         self._take_out(change[0])
         told = _told_of_kinds(program, change)
         if way == "touch":
-            self._lay_to_sleep(program, change, told)
+            self._send_to_sleep(program, change, told)
         else:
             self._lead_at_once(program, change, told)
         for box in change[2]:
@@ -95,7 +95,7 @@ class Standing:
                 if box in change[5]:
                     self.put(box, led_value(change[5][box], self.boxes[box]))
 
-    def _lay_to_sleep(self, program, change, told):
+    def _send_to_sleep(self, program, change, told):
         sleepy = {name: told[name] for name in told if told[name][1] or told[name][0] != _fields(program[0][name])}
         for ref in self.records:
             if self.records[ref][0] in sleepy and ref not in self.gone_through:
