@@ -28,9 +28,9 @@ class Laying:
         self.wrong_takes = None
         self.names = {}
         self.ways = {}
-        self.entries = self._lay_all(takes)
+        self.entries = self._try_until_laid(takes)
 
-    def _lay_all(self, takes):
+    def _try_until_laid(self, takes):
         while len(self.splits) < MOST_SPLITS:
             many = len(self.splits)
             if self._lay(takes):

@@ -3,6 +3,7 @@
 import ast
 import builtins
 import pathlib
+import re
 import unittest
 
 PACKAGE = pathlib.Path(__file__).resolve().parent.parent / "changewhile"
@@ -70,6 +71,15 @@ BUILTINS = {"len", "range", "enumerate", "zip", "min", "max", "sum", "abs", "sor
 
 BARRED_WORDS = {"register", "mro", "elements", "open", "input", "law", "version_info", "type", "id", "hash", "next",
                 "map", "filter", "vars", "dir", "eval", "exec", "compile", "help", "exit", "super", "sys", "os"}
+
+# The beginnings and the names that L12 bars, the latter also with digits or underscores behind them.
+BARRED_BEGINNINGS = ("_pe_", "_dcw_", "_enum_", "_cm_", "_twin_re_", "_lay_", "_law_", "_stub_", "_sre", "_WallAttr")
+BARRED_ALONE = ("_cold", "_tuplegetter", "_outside", "_record", "_written_out", "_member_names")
+BARRED_ANYWHERE = ("_wall", "_WallAttr")
+
+# The double-underscore methods of L5, without the operators (here is none), and the other such names of L5 and L8.
+DOUBLE_UNDERSCORES = {"__init__", "__eq__", "__repr__", "__str__", "__len__", "__enter__", "__exit__", "__call__",
+                      "__iter__", "__all__", "__version__", "__slots__"}
 
 BARRED_NODES = (ast.Global, ast.AsyncFunctionDef, ast.AsyncFor, ast.AsyncWith, ast.Await, ast.Import, ast.Div)
 
@@ -143,6 +153,50 @@ class Language(unittest.TestCase):
                 for name in names_of(node):
                     self.assertNotIn(name, BARRED_WORDS, path)
 
+    def test_names_are_plain(self):
+        for path, tree in trees():
+            names = all_names(tree)
+            # So that the test surely sees what it is about.
+            self.assertTrue(names or path.name == "__init__.py", path)
+            for name in names:
+                self.assertTrue(is_plain_name(name), (path, name))
+            for node in ast.walk(tree):
+                if isinstance(node, ast.ClassDef):
+                    self.assertFalse(node.name.startswith("_"), (path, node.name))
+                if isinstance(node, ast.Name) and node.id == "_":
+                    self.assertNotIsInstance(node.ctx, ast.Load, (path, node.lineno))
+
+    def test_only_attributes_and_methods_are_called_walls(self):
+        for path, tree in trees():
+            names = [node.name for node in tree.body if isinstance(node, (ast.FunctionDef, ast.ClassDef))]
+            names.extend(node.id for node in ast.walk(tree) if isinstance(node, ast.Name))
+            names.extend(node.arg for node in ast.walk(tree) if isinstance(node, ast.arg))
+            for name in names:
+                self.assertFalse(name.startswith("_wall"), (path, name))
+
+    def test_which_names_are_plain(self):
+        for name in ("_", "x", "told", "_lay", "_layings", "_laying_out", "_lawful", "_records", "_record_led",
+                     "_coldest", "__init__", "_X", "n2", "lay_all", "Live"):
+            self.assertTrue(is_plain_name(name), name)
+        for name in ("_lay_all", "_lay_", "_lay_to_sleep", "_pe_x", "_dcw_x", "_enum_x", "_cm_x", "_twin_re_x",
+                     "_law_x", "_stub_x", "_sre", "_srex", "_WallAttr", "_WallAttrs", "_cold", "_cold2", "_record_",
+                     "_record_1", "_tuplegetter", "_outside", "_written_out", "_member_names", "_2", "__x", "__add",
+                     "__hash__", "caf\u00e9"):
+            self.assertFalse(is_plain_name(name), name)
+
+    def test_all_names_are_seen(self):
+        tree = ast.parse("from a.b import c as w\ndef d(e, *f, **g):\n    h.i = j(k=1)\n    try:\n        pass\n"
+                         "    except l as m:\n        pass\n    def n():\n        nonlocal o\n"
+                         "    match p:\n        case [q, *r]:\n            pass\n        case s(t=u):\n"
+                         "            pass\nclass v:\n    pass\n")
+        self.assertEqual(sorted(all_names(tree)), list("abcdefghijklmnopqrstuvw"))
+
+    def test_no_barred_words_anywhere(self):
+        for path in files():
+            words = re.findall("[A-Za-z0-9_]+", path.read_text(encoding="utf-8"))
+            for word in BARRED_ANYWHERE:
+                self.assertNotIn(word, words, path)
+
     def test_builtins(self):
         for path, tree in trees():
             for node in ast.walk(tree):
@@ -209,6 +263,27 @@ def heads_in(name):
             heads.extend(node.name + "." + one.name + "(" + ast.unparse(one.args) + ")"
                          for one in node.body if isinstance(one, ast.FunctionDef))
     return heads
+
+
+def is_plain_name(name):
+    """Whether a name is one that L12 lets stand, be it a variable's, an attribute's or anything else's."""
+    if name == "_" or name in DOUBLE_UNDERSCORES:
+        return True
+    if not re.fullmatch("_?[A-Za-z][A-Za-z0-9_]*", name) or name.startswith(BARRED_BEGINNINGS):
+        return False
+    return not any(re.fullmatch(one + "[0-9_]*", name) for one in BARRED_ALONE)
+
+
+def all_names(tree):
+    """A list of all names in a tree: those that are given or read, and those of keywords, imports and files."""
+    found = []
+    for node in ast.walk(tree):
+        for field in ("id", "attr", "arg", "name", "asname", "names", "module", "rest", "kwd_attrs"):
+            told = getattr(node, field, None)
+            for one in told if isinstance(told, list) else [told]:
+                if isinstance(one, str):
+                    found.extend(one.split("."))
+    return found
 
 
 def names_of(node):
